@@ -1,0 +1,1 @@
+"""Pegleap: pegs that leap over one another, and what they never come to."""
