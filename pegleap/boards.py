@@ -2,7 +2,7 @@
 
 from pegleap.errors import BadBoard, BadPegs
 
-SIDE = 8
+LAST = 7
 MOST_CELLS = 24
 
 
@@ -11,7 +11,7 @@ def is_rising(cells):
 
 
 def is_cell(cell):
-    return 0 <= cell[0] < SIDE and 0 <= cell[1] < SIDE
+    return 0 <= cell[0] <= LAST and 0 <= cell[1] <= LAST
 
 
 def check_cells(cells):
@@ -21,7 +21,8 @@ def check_cells(cells):
         raise BadBoard("the cells of a board rise, none twice")
     for cell in cells:
         if not is_cell(cell):
-            raise BadBoard(f"{cell} is no cell")
+            # The words leave the cell out: Python writes no number of some thousand digits.
+            raise BadBoard(f"rows and columns go from 0 to {LAST}")
 
 
 class Board:
@@ -36,7 +37,7 @@ def check_pegs(board, pegs):
         raise BadPegs("the cells of a standing rise, none twice")
     for cell in pegs:
         if cell not in board.cells:
-            raise BadPegs(f"{cell} is no cell of the board")
+            raise BadPegs("pegs stand on cells of the board alone")
 
 
 def two_apart(cell):

@@ -3,14 +3,10 @@ import unittest
 
 from drawn import (
     BLOCK, BOARDS, COLUMN, CORNER, CROSS, CROSS_WITH_HEART, FAR_CORNER, FRAME, LINE, LONG_CORNER, ONE, PAIRS,
-    SPRINKLED, SQUARE, drawn, leaps_by_definition,
+    PLUS, SPRINKLED, SQUARE, all_sublists, any_cells, drawn, leaps_by_definition,
 )
 from pegleap.boards import Board, leaps, turned
 from pegleap.errors import BadBoard, BadPegs
-
-
-def all_sublists(cells):
-    return [list(part) for size in range(len(cells) + 1) for part in itertools.combinations(cells, size)]
 
 
 def both_ways(*pairs):
@@ -82,6 +78,12 @@ class RefusedBoards(unittest.TestCase):
             for near in (0, 3, 7, far):
                 self.assert_refused([(far, near)])
                 self.assert_refused([(near, far)])
+
+    def test_numbers_too_long_to_be_written(self):
+        for far in (10 ** 5000, -10 ** 5000):
+            self.assert_refused([(far, 0)])
+            self.assert_refused([(0, far)])
+            self.assert_refused([(0, 0), (0, abs(far))])
 
     def test_one_cell_off_the_grid_among_rising_ones(self):
         good = [(1, 0), (1, 7), (4, 0), (4, 4), (4, 7), (6, 0), (6, 7)]
@@ -160,8 +162,7 @@ class Leaps(unittest.TestCase):
         )
 
     def test_four_ways_from_one_cell_rise(self):
-        plus = drawn("..o..", "..o..", "ooooo", "..o..", "..o..")
-        from_heart = [leap for leap in leaps(Board(plus)) if leap[0] == (2, 2)]
+        from_heart = [leap for leap in leaps(Board(PLUS)) if leap[0] == (2, 2)]
         self.assertEqual(
             from_heart, [((2, 2), (0, 2)), ((2, 2), (2, 0)), ((2, 2), (2, 4)), ((2, 2), (4, 2))])
 
@@ -190,6 +191,11 @@ class Leaps(unittest.TestCase):
 
     def test_every_board_of_the_tests_by_definition(self):
         for cells in BOARDS:
+            with self.subTest(cells=cells):
+                self.assertEqual(leaps(Board(cells)), leaps_by_definition(cells))
+
+    def test_boards_of_any_cells_by_definition(self):
+        for cells in any_cells(1, 24):
             with self.subTest(cells=cells):
                 self.assertEqual(leaps(Board(cells)), leaps_by_definition(cells))
 
@@ -330,6 +336,11 @@ class RefusedStandings(unittest.TestCase):
         for other in ((-1, 0), (0, -1), (8, 0), (0, 8), (-1, -1), (8, 8)):
             self.assert_refused(FRAME, [other])
             self.assert_refused(FRAME, sorted(FRAME[2:5] + [other]))
+
+    def test_numbers_too_long_to_be_written(self):
+        for far in (10 ** 5000, -10 ** 5000):
+            self.assert_refused(FRAME, [(far, 0)])
+            self.assert_refused(FRAME, [(0, far)])
 
     def test_no_cell_at_each_place(self):
         pegs = [(0, 1), (1, 0), (3, 3)]
